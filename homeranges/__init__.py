@@ -1,0 +1,1 @@
+"""Home ranges: animals' sightings on a grid and the ranges that hold them."""
