@@ -1,5 +1,7 @@
 """Convex shapes on the grid, over places (x, y) and told by their corners."""
 
+from homeranges.fraction import common_divisor
+
 OUTSIDE = 0
 WITHIN = 1
 ON_RIM = 2
@@ -7,6 +9,16 @@ ON_RIM = 2
 
 def turn_of(a, b, c):
     return (b[0] - a[0]) * (c[1] - a[1]) - (b[1] - a[1]) * (c[0] - a[0])
+
+
+def along(a, b, c):
+    """How far c lies in the direction from a to b, times the length of that way."""
+    return (b[0] - a[0]) * (c[0] - a[0]) + (b[1] - a[1]) * (c[1] - a[1])
+
+
+def square(a, b):
+    """The square of the distance of two places."""
+    return along(a, b, b)
 
 
 def left_chain(places):
@@ -31,20 +43,13 @@ def corners_of(sightings):
     return lower[:-1] + upper[:-1]
 
 
+def sides_of(corners):
+    """The ways from corner to corner; of one corner alone a way to itself."""
+    return [(corners[k - 1], corners[k]) for k in range(len(corners))]
+
+
 def twice_area(corners):
-    total = 0
-    for k in range(len(corners)):
-        total += turn_of(corners[0], corners[k - 1], corners[k])
-    return total
-
-
-def common_divisor(m, n):
-    """The greatest common divisor of two numbers, neither below 0."""
-    while n > 0:
-        rest = m % n
-        m = n
-        n = rest
-    return m
+    return sum([turn_of(corners[0], side[0], side[1]) for side in sides_of(corners)])
 
 
 def steps(a, b):
@@ -58,10 +63,7 @@ def rim_count(corners):
     if len(corners) == 2:
         # One way, not a way there and back: both its ends count.
         return steps(corners[0], corners[1]) + 1
-    total = 0
-    for k in range(len(corners)):
-        total += steps(corners[k - 1], corners[k])
-    return total
+    return sum([steps(side[0], side[1]) for side in sides_of(corners)])
 
 
 def inner_count(corners):
@@ -89,7 +91,11 @@ def standing(corners, place):
         return OUTSIDE
     if len(corners) < 3:
         return ON_RIM if on_way(corners[0], corners[-1], place) else OUTSIDE
-    least = min([turn_of(corners[k - 1], corners[k], place) for k in range(len(corners))])
+    least = min([turn_of(side[0], side[1], place) for side in sides_of(corners)])
     if least < 0:
         return OUTSIDE
     return WITHIN if least > 0 else ON_RIM
+
+
+def holds(corners, place):
+    return standing(corners, place) != OUTSIDE

@@ -5,15 +5,21 @@ a place (x, y). Each call's function takes the herd and the call's numbers,
 all of them in their ranges, and gives back the numbers of its answer.
 """
 
-from homeranges.plane import corners_of, inner_count, rim_count, standing, twice_area
+from homeranges.fraction import lowest
+from homeranges.pairs import gap_square, meeting, twice_common_area
+from homeranges.plane import corners_of, inner_count, rim_count, standing, turn_of, twice_area
+from homeranges.spread import depth_of, layers_of, least_without, widest_pair
 
 ANIMALS = 4
 MOST_SIGHTINGS = 9
 EDGE = 1000
+MOST_LEFT_OUT = 3
 
 NOT_IN_RANGE = -1
 TOO_MANY = -3
 OVER_EDGE = -4
+TOO_FEW = -5
+NO_LINE = -6
 
 
 def counted(places):
@@ -89,11 +95,82 @@ def where(herd, row):
     return [standing(corners_of(herd[row[0]]), (row[1], row[2]))]
 
 
+def depth(herd, row):
+    return [depth_of(herd[row[0]], (row[1], row[2]))]
+
+
+def layers(herd, row):
+    found = layers_of(herd[row[0]])
+    return [len(found)] + found
+
+
+def least(herd, row):
+    sightings = herd[row[0]]
+    if len(sightings) < row[1]:
+        return [TOO_FEW]
+    return least_without(sightings, row[1])
+
+
+def extent(herd, row):
+    reaches = [row[1] * place[0] + row[2] * place[1] for place in herd[row[0]]]
+    if len(reaches) == 0:
+        return [TOO_FEW]
+    greatest = max(reaches)
+    return [0, greatest, reaches.index(greatest)]
+
+
+def widest(herd, row):
+    sightings = herd[row[0]]
+    if len(sightings) < 2:
+        return [TOO_FEW]
+    return widest_pair(sightings)
+
+
+def halves(herd, row):
+    start = (row[1], row[2])
+    end = (row[3], row[4])
+    if start == end:
+        return [NO_LINE]
+    turns = [turn_of(start, end, place) for place in herd[row[0]]]
+    to_left = len([number for number in turns if number > 0])
+    on_line = turns.count(0)
+    return [to_left, on_line, len(turns) - to_left - on_line]
+
+
+def mean(herd, row):
+    sightings = herd[row[0]]
+    count = len(sightings)
+    if count == 0:
+        return [TOO_FEW]
+    mean_x = lowest(sum([place[0] for place in sightings]), count)
+    mean_y = lowest(sum([place[1] for place in sightings]), count)
+    return [0] + list(mean_x) + list(mean_y)
+
+
+def overlap(herd, row):
+    return list(twice_common_area(corners_of(herd[row[0]]), corners_of(herd[row[1]])))
+
+
+def meet(herd, row):
+    both = meeting(corners_of(herd[row[0]]), corners_of(herd[row[1]]))
+    return [1 if both else 0]
+
+
+def gap(herd, row):
+    corners = corners_of(herd[row[0]])
+    others = corners_of(herd[row[1]])
+    if len(corners) == 0 or len(others) == 0:
+        return [TOO_FEW]
+    return list(gap_square(corners, others))
+
+
 # By the call's number: the function that answers it, and what its numbers
 # are, a sign each: "a" an animal, "i" one of the first animal's sightings,
-# "p" an x or a y of a place.
-CALLS = (see, forget, told, clear, join, shift, turn, hull, area, where)
-SIGNS = ("app", "ai", "a", "a", "aaa", "app", "a", "a", "a", "app")
+# "k" how many to leave out, "p" an x or a y.
+CALLS = (see, forget, told, clear, join, shift, turn, hull, area, where,
+         depth, layers, least, extent, widest, halves, mean, overlap, meet, gap)
+SIGNS = ("app", "ai", "a", "a", "aaa", "app", "a", "a", "a", "app",
+         "app", "a", "ak", "app", "a", "apppp", "a", "aa", "aa", "aa")
 
 
 def in_range(herd, sign, row, k):
@@ -101,6 +178,8 @@ def in_range(herd, sign, row, k):
         return 0 <= row[k] < ANIMALS
     if sign == "i":
         return 0 <= row[k] < len(herd[row[0]])
+    if sign == "k":
+        return 0 <= row[k] <= MOST_LEFT_OUT
     return on_grid(row[k])
 
 

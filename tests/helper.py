@@ -1,5 +1,7 @@
 """What the tests share: calls by name, and slow answers straight from the words."""
 
+import random
+from fractions import Fraction
 from itertools import combinations, combinations_with_replacement
 
 from homeranges.ranges import answers
@@ -49,6 +51,46 @@ def where(a, x, y):
     return [9, a, x, y]
 
 
+def depth(a, x, y):
+    return [10, a, x, y]
+
+
+def layers(a):
+    return [11, a]
+
+
+def least(a, k):
+    return [12, a, k]
+
+
+def extent(a, x, y):
+    return [13, a, x, y]
+
+
+def widest(a):
+    return [14, a]
+
+
+def halves(a, x, y, u, v):
+    return [15, a, x, y, u, v]
+
+
+def mean(a):
+    return [16, a]
+
+
+def overlap(a, b):
+    return [17, a, b]
+
+
+def meet(a, b):
+    return [18, a, b]
+
+
+def gap(a, b):
+    return [19, a, b]
+
+
 def flat(rows):
     return [number for row in rows for number in row]
 
@@ -82,6 +124,22 @@ def run(rows):
 def last(places, call):
     """The answer to one call once animal 0 was seen at the places."""
     return run(seen(0, places) + [call])[-1]
+
+
+def last_of_two(places, others, call):
+    """The answer to one call once animals 0 and 1 were seen at the places."""
+    return run(seen(0, places) + seen(1, others) + [call])[-1]
+
+
+def small_lists():
+    """Lists of each length, many with places again and again or on one line."""
+    source = random.Random(20)
+    for number in range(150):
+        reach = source.choice((1, 2, 3))
+        yield [(source.randint(-reach, reach), source.randint(-reach, reach)) for k in range(number % 10)]
+    for number in range(30):
+        step = (source.randint(-2, 2), source.randint(-2, 2))
+        yield [(step[0] * k, step[1] * k) for k in source.choices((-1, 0, 1, 2), k=number % 10)]
 
 
 def turn_of(a, b, c):
@@ -137,3 +195,85 @@ def slow_area(places):
     flat_range = all(turn_of(a, b, c) == 0 for a, b, c in combinations(places, 3))
     twice = 0 if flat_range else 2 * counts[1] + counts[2] - 2
     return [twice, counts[2], counts[1]]
+
+
+def slow_depth(places, place):
+    """Leaves out each set of sightings, the small ones first."""
+    for m in range(len(places) + 1):
+        for rest in combinations(places, len(places) - m):
+            if not in_range(rest, place):
+                return m
+
+
+def slow_layers(places):
+    found = {}
+    while len(found) < len(places):
+        rest = [place for k, place in enumerate(places) if k not in found]
+        layer = 1 + max(found.values(), default=0)
+        rim = {place for place in rest if slow_where(rest, place) == 2}
+        found.update({k: layer for k, place in enumerate(places) if k not in found and place in rim})
+    return [found[k] for k in range(len(places))]
+
+
+def slow_least(places, size):
+    """The areas are asked of the program, the sets are gone through here."""
+    found = []
+    for out in combinations(range(len(places)), size):
+        rest = [place for k, place in enumerate(places) if k not in out]
+        found.append([last(rest, area(0))[0]] + list(out))
+    return min(found)
+
+
+def chords(places):
+    return list(combinations_with_replacement(sorted(set(places)), 2))
+
+
+def slice_of(places, x):
+    """From which y to which the range goes at an x that it has."""
+    ys = []
+    for a, b in chords(places):
+        if a[0] == b[0] == x:
+            ys.extend([a[1], b[1]])
+        elif a[0] <= x <= b[0] and a[0] < b[0]:
+            ys.append(a[1] + Fraction(b[1] - a[1], b[0] - a[0]) * (x - a[0]))
+    return min(ys), max(ys)
+
+
+def crossing_xs(places, others):
+    """The x of each point where a line through two places meets one through two others."""
+    for a, b in chords(places):
+        for c, d in chords(others):
+            across = (b[0] - a[0]) * (d[1] - c[1]) - (b[1] - a[1]) * (d[0] - c[0])
+            if across != 0:
+                yield a[0] + Fraction(turn_of(c, d, a), across) * (b[0] - a[0])
+
+
+def slow_overlap(places, others):
+    """Upright slices: how long the common one is goes straight from bend to bend."""
+    if not places or not others:
+        return [0, 1]
+    low = max(min(places)[0], min(others)[0])
+    high = min(max(places)[0], max(others)[0])
+    bends = {x for x, y in places + others} | set(crossing_xs(places, others))
+    xs = sorted(x for x in bends if low <= x <= high)
+    lengths = []
+    for x in xs:
+        one, other = slice_of(places, x), slice_of(others, x)
+        lengths.append(max(0, min(one[1], other[1]) - max(one[0], other[0])))
+    twice = sum((lengths[k] + lengths[k + 1]) * (xs[k + 1] - xs[k]) for k in range(len(xs) - 1))
+    return list(Fraction(twice).as_integer_ratio())
+
+
+def slow_gap(places, others):
+    """The distance of (0, 0) from the range of all differences of a place and another."""
+    differences = {(a[0] - b[0], a[1] - b[1]) for a in places for b in others}
+    if in_range(differences, (0, 0)):
+        return [0, 1]
+    found = []
+    for a, b in chords(differences):
+        step = (b[0] - a[0], b[1] - a[1])
+        length = step[0] ** 2 + step[1] ** 2
+        share = Fraction(-(a[0] * step[0] + a[1] * step[1]), length) if length else Fraction(0)
+        share = min(max(share, Fraction(0)), Fraction(1))
+        found.append((a[0] + share * step[0]) ** 2 + (a[1] + share * step[1]) ** 2)
+    return list(min(found).as_integer_ratio())

@@ -6,13 +6,15 @@ import io
 import unittest
 from unittest import mock
 
-from helper import (NINE, area, clear, flat, forget, hull, join, run, see, seen, shift, told, turn,
-                    where)
+from helper import (NINE, area, clear, depth, extent, flat, forget, gap, halves, hull, join, layers, least, mean,
+                    meet, overlap, run, see, seen, shift, told, turn, where, widest)
 from homeranges.ranges import answers
 
 MIXED = (seen(0, NINE) + seen(1, NINE[:4]) + [see(0, 1, 1), forget(0, 3), told(0), join(1, 1, 2),
-         shift(1, 7, -7), shift(0, 1000, 0), turn(2), hull(2), area(1), where(0, 2, 5), clear(0),
-         told(0), see(9, 9, 9), told(3)])
+         shift(1, 7, -7), shift(0, 1000, 0), turn(2), hull(2), area(1), where(0, 2, 5), depth(0, 3, 15),
+         layers(0), least(0, 3), extent(2, -3, 4), widest(1), halves(0, 0, 0, 1, 1), mean(2), overlap(0, 1),
+         overlap(0, 0), meet(0, 1), gap(0, 2), clear(0), told(0), see(9, 9, 9), told(3), mean(0), gap(0, 1),
+         halves(1, 2, 2, 2, 2)])
 
 
 class Untouched(list):
@@ -28,17 +30,26 @@ class Untouched(list):
 class Interface(unittest.TestCase):
     def test_examples(self):
         given = run([see(0, 0, 0), see(0, 4, 0), see(0, 0, 3), see(0, 1, 1), hull(0), area(0),
-                     see(1, 2, 2), where(0, 2, 2)])
-        self.assertEqual(given, [[1], [2], [3], [4], [3, 0, 0, 4, 0, 0, 3], [12, 8, 3], [1], [0]])
+                     depth(0, 1, 1), layers(0), least(0, 1), see(1, 2, 2), where(0, 2, 2), gap(0, 1)])
+        self.assertEqual(given, [[1], [2], [3], [4], [3, 0, 0, 4, 0, 0, 3], [12, 8, 3], [2], [4, 1, 1, 1, 2],
+                                 [3, 1], [1], [0], [4, 25]])
 
     def test_each_answer_has_its_length_before_it(self):
         given = answers([0, 0, -3, 5, 2, 0, 2, 7, 7, 0, 8, 0, 9, 0, -3, 5, 1, 0, 0, 3, 0, 4, 0, 1, 2, 5, 0, 1, 1, 6, 0])
         self.assertEqual(given, [1, 1, 3, 1, -3, 5, 1, -1, 3, 1, -3, 5, 3, 0, 1, 0, 1, 2, 1, 0, 1, 0, 1, 0, 1, 0, 1, 0])
 
+    def test_counts_of_calls_10_to_19(self):
+        given = answers([0, 0, -3, 5, 10, 0, -3, 5, 11, 0, 12, 0, 1, 13, 0, 2, 1, 14, 0, 15, 0, 1, 2, 3, 4, 16, 0,
+                         17, 0, 0, 18, 0, 0, 19, 0, 0])
+        self.assertEqual(given, [1, 1, 1, 1, 2, 1, 1, 2, 0, 0, 3, 0, -1, 0, 1, -5, 3, 1, 0, 0, 5, 0, -3, 1, 5, 1,
+                                 2, 0, 1, 1, 1, 2, 0, 1])
+
     def test_any_call_may_be_first(self):
         firsts = [see(0, 1, 1), forget(0, 0), told(0), clear(0), join(0, 1, 2), shift(0, 1, 1), turn(0),
-                  hull(0), area(0), where(0, 1, 1)]
-        expected = [[1], [-1], [0], [0], [0], [0], [0], [0], [0, 0, 0], [0]]
+                  hull(0), area(0), where(0, 1, 1), depth(0, 1, 1), layers(0), least(0, 0), least(0, 1),
+                  extent(0, 1, 1), widest(0), halves(0, 1, 1, 2, 2), mean(0), overlap(0, 1), meet(0, 1), gap(0, 1)]
+        expected = [[1], [-1], [0], [0], [0], [0], [0], [0], [0, 0, 0], [0], [0], [0], [0], [-5],
+                    [-5], [-5], [0, 0, 0], [-5], [0, 1], [0], [-5]]
         self.assertEqual([run([call]) for call in firsts], [[row] for row in expected])
 
     def test_whole_numbers_in_a_list(self):
@@ -89,14 +100,24 @@ class LongLists(unittest.TestCase):
         self.assertEqual({len(row) for row in given[9:]}, {19})
 
     def test_2400_numbers(self):
-        # 400 of these calls fill at most 1600 numbers, so here are more of them.
-        rows = [shift(0, 1, 1), see(0, -5, 5), where(0, -5, 5), join(0, 1, 0)] * 150
+        rows = [halves(0, k, -k, k + 1, 1000) for k in range(400)]
         self.assertEqual(len(flat(rows)), 2400)
-        given = run(rows)
-        self.assertEqual(given[:4], [[0], [1], [2], [1]])
-        self.assertEqual(given[32:36], [[0], [9], [2], [9]])
-        self.assertEqual(given[36:40], [[0], [-3], [0], [9]])
-        self.assertEqual(len(given), 600)
+        self.assertEqual(run(rows), [[0, 0, 0]] * 400)
+
+    def test_400_calls_of_all_twenty_kinds(self):
+        square = [(0, 0), (4, 0), (4, 4), (0, 4)]
+        begin = seen(0, NINE) + seen(1, square)
+        block = [told(1), hull(1), area(1), where(1, 2, 4), depth(1, 2, 2), layers(1), least(1, 1), extent(1, -1, -2),
+                 widest(1), halves(1, 0, 0, 1, 1), mean(1), overlap(1, 1), meet(0, 1), gap(1, 2),
+                 see(2, 1, 0), join(2, 2, 3), turn(3), forget(3, 0), shift(3, 1, 1), clear(2)]
+        expected = [[4, 0, 0, 4, 0, 4, 4, 0, 4], [4, 0, 0, 4, 0, 4, 4, 0, 4], [32, 16, 9], [2], [2], [4, 1, 1, 1, 1],
+                    [16, 0], [0, 0, 0], [32, 0, 2], [1, 2, 1], [0, 2, 1, 2, 1], [32, 1], [1], [-5],
+                    [1], [2], [0], [1], [0], [1]]
+        rows = begin + block * 19 + [halves(0, 0, 0, 0, 1)] * 7
+        self.assertEqual(len(rows), 400)
+        self.assertLessEqual(len(flat(rows)), 2400)
+        self.assertEqual({row[0] for row in rows}, set(range(20)))
+        self.assertEqual(run(rows)[len(begin):], expected * 19 + [[0, 1, 8]] * 7)
 
 
 if __name__ == "__main__":

@@ -73,8 +73,9 @@ class Language(unittest.TestCase):
         defined = {}
         for path in files():
             tree = ast.parse(path.read_text(encoding="utf-8"))
-            defined["homeranges." + path.stem] = {node.name for node in tree.body
-                                                  if isinstance(node, (ast.FunctionDef, ast.ClassDef))}
+            own = {node.name for node in tree.body if isinstance(node, (ast.FunctionDef, ast.ClassDef))}
+            values = {node.targets[0].id for node in tree.body if isinstance(node, ast.Assign)}
+            defined["homeranges." + path.stem] = own | values
         for name, node in nodes():
             if isinstance(node, ast.ImportFrom):
                 self.assertEqual(node.level, 0, name)
@@ -88,6 +89,15 @@ class Language(unittest.TestCase):
                 self.assertEqual(node.decorator_list, [], (name, node.name))
                 given = node.args
                 self.assertFalse(given.vararg or given.kwarg or given.kwonlyargs or given.posonlyargs, node.name)
+
+    def test_no_local_is_called_like_an_import(self):
+        for path in files():
+            tree = ast.parse(path.read_text(encoding="utf-8"))
+            drawn = {alias.name for node in tree.body if isinstance(node, ast.ImportFrom) for alias in node.names}
+            stored = {node.id for node in ast.walk(tree) if isinstance(node, ast.Name)
+                      and isinstance(node.ctx, ast.Store)}
+            given = {node.arg for node in ast.walk(tree) if isinstance(node, ast.arg)}
+            self.assertEqual(drawn & (stored | given), set(), path.name)
 
     def test_names(self):
         for name, node in nodes():

@@ -1,10 +1,9 @@
 """Calls 7 to 9: the range's corners, its size, and where a place lies to it."""
 
-import random
 import unittest
 
 from helper import (NINE, area, hull, last, run, seen, slow_area, slow_corners, slow_where,
-                    turn_of, where)
+                    small_lists, turn_of, where)
 
 SQUARE = [(-1000, -1000), (1000, 1000), (-1000, 1000), (1000, -1000)]
 UPRIGHT = [(2, 5), (2, -1), (2, 3), (2, 5)]
@@ -115,16 +114,6 @@ class Where(unittest.TestCase):
 class AgainstTheWords(unittest.TestCase):
     """Many small lists, each answer held against a slow one."""
 
-    def lists(self):
-        source = random.Random(20)
-        for turn_number in range(150):
-            reach = source.choice((1, 2, 3))
-            count = turn_number % 10
-            yield [(source.randint(-reach, reach), source.randint(-reach, reach)) for k in range(count)]
-        for turn_number in range(30):
-            step = (source.randint(-2, 2), source.randint(-2, 2))
-            yield [(step[0] * k, step[1] * k) for k in source.choices((-1, 0, 1, 2), k=turn_number % 10)]
-
     def check_corners(self, places):
         numbers = last(places, hull(0))
         corners = list(zip(numbers[1::2], numbers[2::2]))
@@ -137,18 +126,18 @@ class AgainstTheWords(unittest.TestCase):
                 self.assertGreater(turn_of(corners[k - 2], corners[k - 1], corners[k]), 0)
 
     def test_hull(self):
-        for places in self.lists():
+        for places in small_lists():
             with self.subTest(places=places):
                 self.check_corners(places)
 
     def test_area(self):
-        for places in self.lists():
+        for places in small_lists():
             with self.subTest(places=places):
                 self.assertEqual(last(places, area(0)), slow_area(places))
 
     def test_where(self):
         asked = [(x, y) for x in range(-4, 5) for y in range(-4, 5)]
-        for places in list(self.lists())[::3]:
+        for places in list(small_lists())[::3]:
             with self.subTest(places=places):
                 slow = [slow_where(places, place) for place in asked]
                 self.assertEqual(standings(places, asked), slow)
